@@ -1,0 +1,1 @@
+"""Queues that keep one entry per key, and what their logs tell."""
