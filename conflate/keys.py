@@ -1,7 +1,7 @@
 """Keys, logs, counted logs and runs, and what a log says by itself."""
 
 from conflate.errors import InvalidLog
-from conflate.playing import empty_send
+from conflate.playing import play
 
 LONGEST_KEY = 12
 FIRST_SIGNS = "abcdefghijklmnopqrstuvwxyz"
@@ -61,9 +61,18 @@ def is_counted(value):
     return True
 
 
+def played(value):
+    """Return what playing.play tells of a run, or None if the value is not a run."""
+    if not is_events(value):
+        return None
+    found = play(value)
+    # A send that finds the queue empty neither writes nor shows, nor does any event behind it.
+    return found if len(found[0]) + len(found[1]) == len(value) else None
+
+
 def is_run(value):
     """Return whether any value is a run."""
-    return is_events(value) and empty_send(value) is None
+    return played(value) is not None
 
 
 def check_log(value):

@@ -4,9 +4,16 @@ import copy
 import inspect
 import unittest
 
-from conflate import keys, queues
+from conflate import chains, keys, orders, pairs, queues
+from conflate.chains import (
+    is_chain, is_reversed, is_sure_through, reversed_chain, sure_depth, sure_from, traced,
+)
 from conflate.errors import ConflateError
 from conflate.keys import entries_of, is_counted, is_log, is_run, keys_of, last_counts, previous_items
+from conflate.orders import (
+    broken_pair, count_orders, fewest_hidden, is_order, nth_order, order_number, run_for, walk_orders,
+)
+from conflate.pairs import is_sure, repeat_end, reversed_run, sure_counts, why_sure
 from conflate.queues import (
     earliest_run, first_fault, hidden_in, shown_by, waiting_after, writes_of,
 )
@@ -23,20 +30,60 @@ INTERFACE = {
         ("writes_of", ["run"]), ("shown_by", ["run"]), ("waiting_after", ["run"]), ("hidden_in", ["run"]),
         ("first_fault", ["events"]), ("earliest_run", ["run"]),
     ],
+    pairs: [
+        ("repeat_end", ["log", "item"]), ("sure_counts", ["log"]), ("is_sure", ["log", "first", "second"]),
+        ("why_sure", ["log", "first", "second"]), ("reversed_run", ["log", "first", "second"]),
+    ],
+    orders: [
+        ("is_order", ["log", "value"]), ("broken_pair", ["log", "order"]), ("fewest_hidden", ["log", "order"]),
+        ("run_for", ["log", "order"]), ("count_orders", ["log"]), ("nth_order", ["log", "number"]),
+        ("order_number", ["log", "order"]), ("walk_orders", ["log"]),
+    ],
+    chains: [
+        ("is_chain", ["value"]), ("is_sure_through", ["log", "queues", "first", "second"]),
+        ("is_reversed", ["log", "queues", "first", "second", "value"]), ("traced", ["chain"]),
+        ("sure_from", ["log", "queues", "first"]), ("sure_depth", ["log", "first", "second"]),
+        ("reversed_chain", ["log", "queues", "first", "second"]),
+    ],
 }
 COUNTED = [("b", 2), ("a", 1), ("b", 5)]
 LOG = ["b", "a", "b", "b"]
 RUN = events("ab!ab!bba")
+SURE = ["b", "a", "a", "c"]
+CHAIN = [events("b!aba!!"), events("bab!!")]
 
 
 def calls():
-    """Each function with an argument that it accepts, the ones that give a list or a dict first."""
+    """Each function with arguments that it accepts; of each kind of result at least one."""
     return [
         (keys_of, COUNTED), (last_counts, COUNTED), (previous_items, LOG), (entries_of, COUNTED),
         (writes_of, RUN), (shown_by, RUN), (waiting_after, RUN), (hidden_in, RUN), (earliest_run, RUN),
         (earliest_run, earliest_run(RUN)), (first_fault, RUN), (first_fault, events("a!!")),
         (is_log, LOG), (is_counted, COUNTED), (is_run, RUN),
+        (repeat_end, SURE, 0), (sure_counts, SURE), (is_sure, SURE, 0, 3), (why_sure, SURE, 0, 3),
+        (reversed_run, SURE, 2, 3), (reversed_run, SURE, 3, 2), (reversed_run, SURE, 0, 3),
+        (is_order, SURE, [0, 1, 3, 2]), (broken_pair, SURE, [0, 2, 1, 3]), (fewest_hidden, SURE, [0, 1, 3, 2]),
+        (run_for, SURE, [1, 0, 3, 2]), (run_for, SURE, [0, 1, 2, 3]), (count_orders, SURE),
+        (nth_order, SURE, 2), (order_number, SURE, [1, 0, 2, 3]), (all_walked, SURE),
+        (is_chain, CHAIN), (traced, CHAIN), (traced, CHAIN[:1]), (is_sure_through, SURE, 2, 0, 3),
+        (sure_from, SURE, 1, 0), (sure_depth, SURE, 0, 3), (reversed_chain, SURE, 2, 0, 3),
+        (reversed_chain, SURE, 1, 0, 1), (is_reversed, ["a", "b"], 1, 0, 1, [events("aba!!")]),
     ]
+
+
+def all_walked(log):
+    return list(walk_orders(log))
+
+
+KINDS = {
+    dict: [last_counts],
+    bool: [is_log, is_counted, is_run, is_sure, is_order, is_chain, is_sure_through, is_reversed],
+    int: [repeat_end, fewest_hidden, count_orders, order_number, sure_from, sure_depth],
+    tuple: [why_sure, broken_pair],
+}
+NONE_OR_A_NUMBER = [
+    (first_fault, RUN), (first_fault, events("a!!")), (reversed_run, SURE, 0, 3),
+]
 
 
 class Interface(unittest.TestCase):
@@ -51,17 +98,14 @@ class Interface(unittest.TestCase):
                     self.assertEqual(list(inspect.signature(function).parameters), arguments)
 
     def test_kinds_of_results(self):
-        for function, value in calls():
+        for function, *given in calls():
             with self.subTest(function=function.__name__):
-                result = function(value)
-                if function is last_counts:
-                    self.assertIs(type(result), dict)
-                elif function in (is_log, is_counted, is_run):
-                    self.assertIs(type(result), bool)
-                elif function is first_fault:
+                result = function(*given)
+                if (function, *given) in NONE_OR_A_NUMBER:
                     self.assertIn(result, [None, 2])
                 else:
-                    self.assertIs(type(result), list)
+                    kinds = [kind for kind, functions in KINDS.items() if function in functions]
+                    self.assertIs(type(result), kinds[0] if kinds else list)
 
     def test_kinds_of_parts(self):
         for function in (shown_by, waiting_after, hidden_in):
@@ -74,13 +118,14 @@ class Interface(unittest.TestCase):
 
 class Arguments(unittest.TestCase):
     def test_arguments_do_not_change(self):
-        for function, value in calls():
+        for function, *given in calls():
             with self.subTest(function=function.__name__):
-                before = copy.deepcopy(value)
-                parts = [id(part) for part in value]
-                function(value)
-                self.assertEqual(value, before)
-                self.assertEqual([id(part) for part in value], parts)
+                before = copy.deepcopy(given)
+                parts = [id(part) for value in given if isinstance(value, list) for part in value]
+                function(*given)
+                self.assertEqual(given, before)
+                found = [id(part) for value in given if isinstance(value, list) for part in value]
+                self.assertEqual(found, parts)
 
     def test_arguments_do_not_change_when_an_error_is_raised(self):
         wrong = [
@@ -89,13 +134,19 @@ class Arguments(unittest.TestCase):
             (writes_of, events("ab!!!a")), (shown_by, events("ab!!!a")), (waiting_after, events("ab!!!a")),
             (hidden_in, events("ab!!!a")), (earliest_run, events("ab!!!a")),
             (first_fault, [w("a"), SEND, ["send"]]),
+            (repeat_end, SURE, 4), (sure_counts, SURE + ["A"]), (is_sure, SURE, 1, 1), (why_sure, SURE, 1, 1),
+            (reversed_run, SURE, 1, 1), (is_order, SURE + ["A"], [0]), (broken_pair, SURE, [0, 1, 2, 2]),
+            (fewest_hidden, SURE, [3, 2, 1, 0]), (run_for, SURE, [3, 2, 1, 0]), (count_orders, ["a"] * 61),
+            (nth_order, SURE, 4), (order_number, SURE, [3, 2, 1, 0]), (all_walked, SURE + ["A"]),
+            (traced, [CHAIN[1], CHAIN[0]]), (is_sure_through, SURE, 0, 0, 3), (sure_from, SURE, 0, 0),
+            (sure_depth, SURE, 3, 0), (reversed_chain, SURE, 0, 0, 3), (is_reversed, SURE, 0, 0, 3, CHAIN),
         ]
-        for function, value in wrong:
+        for function, *given in wrong:
             with self.subTest(function=function.__name__):
-                before = copy.deepcopy(value)
+                before = copy.deepcopy(given)
                 with self.assertRaises(ConflateError):
-                    function(value)
-                self.assertEqual(value, before)
+                    function(*given)
+                self.assertEqual(given, before)
 
     def test_a_value_changed_in_place_is_read_anew(self):
         counted = list(COUNTED)
@@ -116,6 +167,30 @@ class Arguments(unittest.TestCase):
         log[2] = "A"
         self.assertIs(is_log(log), False)
 
+    def test_a_log_changed_in_place_has_other_pairs_and_orders(self):
+        log, order = list(SURE), [1, 0, 3, 2]
+        self.assertEqual([sure_counts(log), count_orders(log)], [[0, 0, 2, 2], 4])
+        self.assertEqual([repeat_end(log, 0), is_sure(log, 0, 3), sure_depth(log, 0, 3)], [2, True, 1])
+        self.assertIs(is_order(log, order), True)
+        log[2] = "d"
+        self.assertEqual([sure_counts(log), count_orders(log)], [[0, 0, 0, 0], 24])
+        self.assertEqual([repeat_end(log, 0), is_sure(log, 0, 3), sure_depth(log, 0, 3)], [None, False, 0])
+        self.assertEqual(order_number(log, order), 7)
+        order.reverse()
+        self.assertEqual(order_number(log, order), 16)
+        log[2] = "D"
+        for function, *more in [(sure_counts,), (is_order, order), (sure_from, 1, 0)]:
+            with self.assertRaises(ConflateError):
+                function(log, *more)
+
+    def test_a_chain_changed_in_place_is_read_anew(self):
+        chain = copy.deepcopy(CHAIN)
+        self.assertEqual(traced(chain), [2, 3])
+        chain[1].pop()
+        self.assertEqual(traced(chain), [2])
+        chain[0].pop()
+        self.assertIs(is_chain(chain), False)
+
     def test_a_run_changed_in_place_is_read_anew(self):
         run = events("ab!")
         found = [writes_of(run), shown_by(run), waiting_after(run), hidden_in(run), earliest_run(run)]
@@ -131,32 +206,37 @@ class Arguments(unittest.TestCase):
 
 
 class Results(unittest.TestCase):
+    with_lists = [call for call in calls() if isinstance(call[0](*call[1:]), (list, dict))]
+
     def test_results_are_new_objects(self):
-        for function, value in calls():
-            result = function(value)
-            if isinstance(result, (list, dict)):
-                with self.subTest(function=function.__name__):
-                    self.assertIsNot(result, value)
-                    self.assertIsNot(result, function(value))
+        for function, *given in self.with_lists:
+            with self.subTest(function=function.__name__):
+                result = function(*given)
+                for other in [*given, function(*given)]:
+                    self.assertIsNot(result, other)
+
+    def test_parts_of_results_are_new_objects(self):
+        for function, *given in self.with_lists:
+            with self.subTest(function=function.__name__):
+                old = [part for value in given if isinstance(value, list) for part in value]
+                old += list(function(*given))
+                kept = [id(part) for part in old if isinstance(part, list)]
+                for part in function(*given):
+                    self.assertNotIn(id(part), kept)
 
     def test_changing_a_result_has_no_effect(self):
-        for function, value in calls():
-            result = function(value)
-            if isinstance(result, (list, dict)):
-                with self.subTest(function=function.__name__):
-                    before, kept = copy.deepcopy(value), copy.deepcopy(result)
-                    if isinstance(result, dict):
-                        result["a"] = 77
-                        result["zz"] = 1
-                    else:
-                        result.reverse()
-                        result.append(("zz", 1))
-                    self.assertEqual(value, before)
-                    self.assertEqual(function(value), kept)
+        for function, *given in self.with_lists:
+            with self.subTest(function=function.__name__):
+                result = function(*given)
+                before, kept = copy.deepcopy(given), copy.deepcopy(result)
+                change(result)
+                self.assertEqual(given, before)
+                self.assertEqual(function(*given), kept)
 
     def test_empty_results_are_new_objects(self):
         for function in (
             keys_of, previous_items, entries_of, writes_of, shown_by, waiting_after, hidden_in, earliest_run,
+            sure_counts,
         ):
             with self.subTest(function=function.__name__):
                 given = []
@@ -165,11 +245,14 @@ class Results(unittest.TestCase):
                 self.assertEqual(function([]), [])
         last_counts([])["zz"] = 1
         self.assertEqual(last_counts([]), {})
+        for function, *given in [(run_for, [], []), (nth_order, [], 0), (traced, [[]])]:
+            function(*given).append("zz")
+            self.assertEqual(function(*given), [])
 
     def test_equal_arguments_give_equal_results(self):
-        for function, value in calls():
+        for function, *given in calls():
             with self.subTest(function=function.__name__):
-                self.assertEqual(function(value), function(copy.deepcopy(value)))
+                self.assertEqual(function(*given), function(*copy.deepcopy(given)))
 
     def test_results_are_accepted_as_arguments(self):
         run = values.long_run()
@@ -181,6 +264,28 @@ class Results(unittest.TestCase):
             self.assertIs(is_counted(waiting_after(given)), True)
             self.assertIs(is_counted(hidden_in(given)), True)
             self.assertEqual(len(previous_items(keys_of(shown))), len(shown))
+
+    def test_runs_and_chains_are_accepted_as_arguments(self):
+        for run in (reversed_run(SURE, 2, 3), run_for(SURE, nth_order(SURE, 3))):
+            self.assertEqual(keys_of(shown_by(run)), SURE)
+            self.assertEqual(traced([run]), traced([earliest_run(run)]))
+        chain = reversed_chain(SURE, 2, 0, 3)
+        self.assertIs(is_chain(chain), True)
+        self.assertIs(is_chain(chain[:1]), True)
+        self.assertEqual(keys_of(shown_by(chain[-1])), SURE)
+
+
+def change(result):
+    """Change a list or a dict, and the lists in it."""
+    if isinstance(result, dict):
+        result["a"] = 77
+        result["zz"] = 1
+    else:
+        for part in result:
+            if isinstance(part, list):
+                part.append("zz")
+        result.reverse()
+        result.append(("zz", 1))
 
 
 if __name__ == "__main__":

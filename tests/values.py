@@ -73,6 +73,14 @@ def wrong_counts():
     return plain_values() + [0, -1, -10 ** 30, "1", "", [], [1], (), (1,), nested_in_itself()]
 
 
+def wrong_items(many):
+    """Values that are not items of a log of so many items."""
+    return plain_values() + [
+        many, many + 1, -1, -many, 10 ** 30, -10 ** 30, "0", "1", "", "a", [], [0], (), (0,), {0: 0}, {0},
+        nested_in_itself(),
+    ]
+
+
 def wrong_writes():
     """Values that are not writes."""
     return (
