@@ -4,15 +4,24 @@ from conflate.errors import InvalidLog
 from conflate.playing import play
 
 LONGEST_KEY = 12
-FIRST_SIGNS = "abcdefghijklmnopqrstuvwxyz"
-KEY_SIGNS = "abcdefghijklmnopqrstuvwxyz0123456789_"
+
+
+def are_keys(words):
+    """Return whether all of these strings are keys."""
+    # What the joined words tell is asked once for all of them: long runs and logs are checked often.
+    text = " " + " ".join(words)
+    if not text.isascii() or text != text.lower() or " _" in text:
+        return False
+    for word in words:
+        # In ASCII, an identifier has letters, digits and `_`, and no digit in front.
+        if len(word) > LONGEST_KEY or not word.isidentifier():
+            return False
+    return True
 
 
 def is_key(value):
     """Return whether any value is a key."""
-    if not isinstance(value, str) or not 1 <= len(value) <= LONGEST_KEY:
-        return False
-    return value[0] in FIRST_SIGNS and all([sign in KEY_SIGNS for sign in value])
+    return isinstance(value, str) and are_keys([value])
 
 
 def is_integer(value):
@@ -20,45 +29,59 @@ def is_integer(value):
     return isinstance(value, int) and not isinstance(value, bool)
 
 
-def is_write(value):
-    """Return whether any value is a write: a key and a count from 1 on."""
-    if not isinstance(value, tuple) or len(value) != 2:
-        return False
-    return is_key(value[0]) and is_integer(value[1]) and value[1] >= 1
-
-
-def is_event(value):
-    """Return whether any value is an event."""
-    if not isinstance(value, tuple) or len(value) not in (1, 2):
-        return False
-    # Only a string is compared: any other value may define == as it likes.
-    if not isinstance(value[0], str):
-        return False
-    if len(value) == 1:
-        return value[0] == "send"
-    return value[0] == "write" and is_key(value[1])
-
-
 def is_events(value):
     """Return whether any value is a list of events."""
-    return isinstance(value, list) and all([is_event(part) for part in value])
+    if not isinstance(value, list):
+        return False
+    keys = {}
+    for event in value:
+        if not isinstance(event, tuple):
+            return False
+        if len(event) == 2:
+            word, key = event
+            # Only a string is compared: any other value may define == as it likes.
+            if not isinstance(word, str) or word != "write" or not isinstance(key, str):
+                return False
+            keys[key] = True
+        elif len(event) != 1 or not isinstance(event[0], str) or event[0] != "send":
+            return False
+    return are_keys(keys)
 
 
 def is_log(value):
     """Return whether any value is a log."""
-    return isinstance(value, list) and all([is_key(part) for part in value])
+    if not isinstance(value, list):
+        return False
+    for part in value:
+        if not isinstance(part, str):
+            return False
+    return are_keys(value)
+
+
+def counts_in(value):
+    """Return a dict from each key of a counted log to its last count, in the order of the first items.
+
+    Return None if the value is not a counted log.
+    """
+    if not isinstance(value, list):
+        return None
+    last = {}
+    for part in value:
+        if not isinstance(part, tuple) or len(part) != 2:
+            return None
+        key, count = part
+        # False is no count either: it is not greater than 0.
+        if not isinstance(key, str) or not isinstance(count, int) or count is True:
+            return None
+        if count <= last.get(key, 0):
+            return None
+        last[key] = count
+    return last if are_keys(last) else None
 
 
 def is_counted(value):
     """Return whether any value is a counted log."""
-    if not isinstance(value, list) or not all([is_write(part) for part in value]):
-        return False
-    last = {}
-    for key, count in value:
-        if count <= last.get(key, 0):
-            return False
-        last[key] = count
-    return True
+    return counts_in(value) is not None
 
 
 def played(value):
@@ -81,24 +104,23 @@ def check_log(value):
         raise InvalidLog("not a log: a list of keys")
 
 
-def check_counted(value):
-    """Raise InvalidLog unless the value is a counted log."""
-    if not is_counted(value):
+def checked_counts(value):
+    """Return what counts_in tells of a counted log; raise InvalidLog if the value is not one."""
+    last = counts_in(value)
+    if last is None:
         raise InvalidLog("not a counted log: a list of writes, the counts of each key increasing")
+    return last
 
 
 def keys_of(counted):
     """Return the plain log of a counted log."""
-    check_counted(counted)
+    checked_counts(counted)
     return [key for key, _ in counted]
 
 
 def last_counts(counted):
     """Return a dict from each key of a counted log to the count of its last item."""
-    check_counted(counted)
-    last = {}
-    for key, count in counted:
-        last[key] = count
+    last = checked_counts(counted)
     return {key: last[key] for key in sorted(last)}
 
 
@@ -115,10 +137,13 @@ def previous_items(log):
 
 def entries_of(counted):
     """Return the entries of the items of a counted log."""
-    check_counted(counted)
-    last = {}
+    last = checked_counts(counted)
+    if len(last) == len(counted):
+        # No key comes again, so that each one entered with its first write.
+        return [(key, 1) for key in last]
+    following = {}
     entries = []
     for key, count in counted:
-        entries.append((key, last.get(key, 0) + 1))
-        last[key] = count
+        entries.append((key, following.get(key, 1)))
+        following[key] = count + 1
     return entries

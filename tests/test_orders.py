@@ -1,9 +1,11 @@
 """Points 8 and 26 to 30: the orders of a log, numbered and walked, and the runs that show them."""
 
+import gc
 import inspect
 import itertools
 import random
 import unittest
+import weakref
 
 from conflate.errors import InvalidLog, InvalidNumber, InvalidOrder, TooLarge
 from conflate.orders import (
@@ -319,6 +321,19 @@ class Walks(unittest.TestCase):
         found = [next(walk)]
         log.clear()
         self.assertEqual(found + list(walk), expected)
+
+    def test_the_log_is_not_kept(self):
+        class Log(list):
+            """A list that can be watched."""
+
+        log = Log("abcab")
+        watched = weakref.ref(log)
+        walk = walk_orders(log)
+        next(walk)
+        del log
+        gc.collect()
+        self.assertIsNone(watched())
+        self.assertEqual(next(walk), [0, 1, 2, 4, 3])
 
     def test_two_walks_do_not_meet(self):
         log = list("abca")
