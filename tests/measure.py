@@ -5,8 +5,8 @@ No test: times depend on the machine. The best of many calls is shown, in millis
 
 import time
 
-from conflate import chains, keys, orders, pairs, queues
-from tests import test_long
+from conflate import chains, given, keys, mirrors, orders, pairs, queues, relations
+from tests import sources, test_long
 from tests.test_long import KEYS, counted_of
 
 
@@ -48,6 +48,21 @@ def main():
     log = ["b"] + ["a"] * 199
     show(chains.reversed_chain, log, 10 ** 30, 0, 199)
     show(chains.traced, chains.reversed_chain(log, 10 ** 30, 0, 199))
+    print("60 writes of 6 keys")
+    writes = list("abcdef") * 10
+    show(given.count_logs, writes)
+    show(given.nth_log, writes, 10 ** 10)
+    show(given.log_number, writes, given.nth_log(writes, 10 ** 10))
+    show(given.next_items, writes, given.nth_log(writes, 10 ** 10))
+    print("20 logs with 200 items")
+    _, logs = sources.played_mirrors(1, 20, [f"k{number}" for number in range(10)], 200, 60)
+    first, *_, last = mirrors.history_of(logs)
+    for function in (mirrors.marked_writes, mirrors.is_consistent, mirrors.history_of):
+        show(function, logs)
+    show(mirrors.is_history, logs, mirrors.history_of(logs))
+    for function in (mirrors.is_direct, relations.is_before, relations.path_between, relations.history_with):
+        show(function, logs, first, last)
+    show(relations.unordered_with, logs, first)
 
 
 if __name__ == "__main__":

@@ -4,12 +4,16 @@ import copy
 import inspect
 import unittest
 
-from conflate import chains, keys, orders, pairs, queues
+from conflate import chains, given, keys, mirrors, orders, pairs, queues, relations
 from conflate.chains import (
     is_chain, is_reversed, is_sure_through, reversed_chain, sure_depth, sure_from, traced,
 )
 from conflate.errors import ConflateError
+from conflate.given import count_logs, first_wrong, is_log_of, log_number, next_items, nth_log, run_of
 from conflate.keys import entries_of, is_counted, is_log, is_run, keys_of, last_counts, previous_items
+from conflate.mirrors import (
+    history_of, is_consistent, is_direct, is_history, is_ring, marked_writes, ring_in,
+)
 from conflate.orders import (
     broken_pair, count_orders, fewest_hidden, is_order, nth_order, order_number, run_for, walk_orders,
 )
@@ -17,6 +21,7 @@ from conflate.pairs import is_sure, repeat_end, reversed_run, sure_counts, why_s
 from conflate.queues import (
     earliest_run, first_fault, hidden_in, shown_by, waiting_after, writes_of,
 )
+from conflate.relations import history_with, is_before, path_between, unordered_with
 from tests import values
 from tests.values import SEND, events, w
 
@@ -45,12 +50,30 @@ INTERFACE = {
         ("sure_from", ["log", "queues", "first"]), ("sure_depth", ["log", "first", "second"]),
         ("reversed_chain", ["log", "queues", "first", "second"]),
     ],
+    given: [
+        ("next_items", ["writes", "counted"]), ("is_log_of", ["writes", "counted"]),
+        ("first_wrong", ["writes", "counted"]), ("count_logs", ["writes"]), ("nth_log", ["writes", "number"]),
+        ("log_number", ["writes", "counted"]), ("run_of", ["writes", "counted"]),
+    ],
+    mirrors: [
+        ("marked_writes", ["logs"]), ("history_of", ["logs"]), ("is_direct", ["logs", "write", "other"]),
+        ("is_consistent", ["logs"]), ("is_ring", ["logs", "value"]), ("is_history", ["logs", "value"]),
+        ("ring_in", ["logs"]),
+    ],
+    relations: [
+        ("is_before", ["logs", "write", "other"]), ("path_between", ["logs", "write", "other"]),
+        ("history_with", ["logs", "first", "second"]), ("unordered_with", ["logs", "write"]),
+    ],
 }
 COUNTED = [("b", 2), ("a", 1), ("b", 5)]
 LOG = ["b", "a", "b", "b"]
 RUN = events("ab!ab!bba")
 SURE = ["b", "a", "a", "c"]
 CHAIN = [events("b!aba!!"), events("bab!!")]
+WRITES = ["a", "b", "a", "b", "c"]
+OF_WRITES = [("a", 2), ("b", 2)]
+LOGS = [[("a", 2), ("b", 1)], [("a", 1), ("b", 1), ("a", 2)], []]
+WRONG_WAY = [[("a", 2), ("b", 1)], [("b", 1), ("a", 2)]]
 
 
 def calls():
@@ -68,6 +91,13 @@ def calls():
         (is_chain, CHAIN), (traced, CHAIN), (traced, CHAIN[:1]), (is_sure_through, SURE, 2, 0, 3),
         (sure_from, SURE, 1, 0), (sure_depth, SURE, 0, 3), (reversed_chain, SURE, 2, 0, 3),
         (reversed_chain, SURE, 1, 0, 1), (is_reversed, ["a", "b"], 1, 0, 1, [events("aba!!")]),
+        (next_items, WRITES, OF_WRITES), (is_log_of, WRITES, OF_WRITES), (first_wrong, WRITES, [("a", 3)]),
+        (count_logs, WRITES), (nth_log, WRITES, 5), (log_number, WRITES, OF_WRITES), (run_of, WRITES, OF_WRITES),
+        (marked_writes, LOGS), (history_of, LOGS), (is_direct, LOGS, ("b", 1), ("a", 2)), (is_consistent, LOGS),
+        (ring_in, WRONG_WAY), (is_ring, WRONG_WAY, [("a", 1), ("b", 1)]),
+        (is_history, LOGS, [("a", 1), ("b", 1), ("a", 2)]), (is_before, LOGS, ("a", 1), ("b", 1)),
+        (path_between, LOGS, ("a", 1), ("a", 2)), (history_with, LOGS[:1], ("b", 1), ("a", 2)),
+        (history_with, LOGS[:1], ("a", 2), ("b", 1)), (unordered_with, LOGS[:1], ("a", 2)),
     ]
 
 
@@ -77,8 +107,13 @@ def all_walked(log):
 
 KINDS = {
     dict: [last_counts],
-    bool: [is_log, is_counted, is_run, is_sure, is_order, is_chain, is_sure_through, is_reversed],
-    int: [repeat_end, fewest_hidden, count_orders, order_number, sure_from, sure_depth],
+    bool: [
+        is_log, is_counted, is_run, is_sure, is_order, is_chain, is_sure_through, is_reversed, is_log_of, is_direct,
+        is_consistent, is_ring, is_history, is_before,
+    ],
+    int: [
+        repeat_end, fewest_hidden, count_orders, order_number, sure_from, sure_depth, first_wrong, count_logs, log_number,
+    ],
     tuple: [why_sure, broken_pair],
 }
 NONE_OR_A_NUMBER = [
@@ -140,6 +175,12 @@ class Arguments(unittest.TestCase):
             (nth_order, SURE, 4), (order_number, SURE, [3, 2, 1, 0]), (all_walked, SURE + ["A"]),
             (traced, [CHAIN[1], CHAIN[0]]), (is_sure_through, SURE, 0, 0, 3), (sure_from, SURE, 0, 0),
             (sure_depth, SURE, 3, 0), (reversed_chain, SURE, 0, 0, 3), (is_reversed, SURE, 0, 0, 3, CHAIN),
+            (next_items, WRITES, [("a", 3)]), (log_number, WRITES, [("b", 1)]), (run_of, WRITES, [("a", 3)]),
+            (is_log_of, WRITES, [("a", 0)]), (first_wrong, list("abcdefg"), OF_WRITES), (nth_log, WRITES, -1),
+            (count_logs, list("abcdefg")), (marked_writes, LOGS + [["a"]]), (ring_in, []), (is_consistent, []),
+            (history_of, WRONG_WAY), (is_direct, LOGS, ("a", 1), ("a", 3)), (is_before, WRONG_WAY, ("a", 1), ("b", 1)),
+            (is_ring, [], []), (is_history, [None], []), (path_between, LOGS, ("a", 0), ("b", 1)),
+            (history_with, WRONG_WAY, ("a", 1), ("b", 1)), (unordered_with, WRONG_WAY, ("a", 1)),
         ]
         for function, *given in wrong:
             with self.subTest(function=function.__name__):
@@ -182,6 +223,28 @@ class Arguments(unittest.TestCase):
         for function, *more in [(sure_counts,), (is_order, order), (sure_from, 1, 0)]:
             with self.assertRaises(ConflateError):
                 function(log, *more)
+
+    def test_given_writes_changed_in_place_are_read_anew(self):
+        writes, counted = list(WRITES), list(OF_WRITES)
+        self.assertEqual([log_number(writes, counted), is_log_of(writes, counted)], [count_logs(writes) - 2, True])
+        writes.append("a")
+        self.assertEqual(next_items(writes, [("a", 2)]), [("b", 1), ("b", 2)])
+        self.assertEqual(nth_log(writes, count_logs(writes) - 1)[0], ("a", 3))
+        counted.append(("b", 3))
+        self.assertEqual(first_wrong(writes, counted), 2)
+
+    def test_logs_of_mirrors_changed_in_place_are_read_anew(self):
+        logs = copy.deepcopy(LOGS)
+        self.assertEqual([is_before(logs, ("b", 1), ("a", 2)), ring_in(logs)], [True, None])
+        del logs[1][0]
+        self.assertIs(is_ring(logs, ring_in(logs)), True)
+        del logs[1:]
+        self.assertEqual([unordered_with(logs, ("a", 2)), is_consistent(logs)], [[("b", 1)], True])
+        logs[0].append(("c", 3))
+        self.assertEqual(marked_writes(logs), [("a", 1), ("a", 2), ("b", 1), ("c", 1), ("c", 3)])
+        logs[0].append(("c", 3))
+        with self.assertRaises(ConflateError):
+            is_consistent(logs)
 
     def test_a_chain_changed_in_place_is_read_anew(self):
         chain = copy.deepcopy(CHAIN)
@@ -245,7 +308,10 @@ class Results(unittest.TestCase):
                 self.assertEqual(function([]), [])
         last_counts([])["zz"] = 1
         self.assertEqual(last_counts([]), {})
-        for function, *given in [(run_for, [], []), (nth_order, [], 0), (traced, [[]])]:
+        for function, *given in [
+            (run_for, [], []), (nth_order, [], 0), (traced, [[]]), (next_items, [], []), (nth_log, [], 0),
+            (run_of, [], []), (marked_writes, [[]]), (history_of, [[]]), (unordered_with, [[("a", 1)]], ("a", 1)),
+        ]:
             function(*given).append("zz")
             self.assertEqual(function(*given), [])
 
@@ -264,6 +330,20 @@ class Results(unittest.TestCase):
             self.assertIs(is_counted(waiting_after(given)), True)
             self.assertIs(is_counted(hidden_in(given)), True)
             self.assertEqual(len(previous_items(keys_of(shown))), len(shown))
+
+    def test_writes_and_logs_are_accepted_as_arguments(self):
+        run = events("abab!c!aba!!")
+        counted = shown_by(run)
+        self.assertIs(is_log_of(writes_of(run), counted), True)
+        self.assertEqual(run_of(writes_of(run), counted), earliest_run(run))
+        self.assertEqual(log_number(writes_of(run), nth_log(writes_of(run), 7)), 7)
+        logs = [counted, shown_by(run_of(writes_of(run), counted[:2])), nth_log(writes_of(run), 7)]
+        self.assertIs(is_history(logs, history_of(logs)), True)
+        self.assertIs(is_ring(WRONG_WAY, ring_in(WRONG_WAY)), True)
+        for write in marked_writes(logs)[1:]:
+            self.assertIs(is_history(logs, history_with(logs, marked_writes(logs)[0], write)), True)
+            for other in unordered_with(logs, write):
+                self.assertIsNone(path_between(logs, write, other))
 
     def test_runs_and_chains_are_accepted_as_arguments(self):
         for run in (reversed_run(SURE, 2, 3), run_for(SURE, nth_order(SURE, 3))):

@@ -200,3 +200,32 @@ def long_run():
 def long_counted():
     """A counted log of 200 items over 8 keys with counts of thirty digits."""
     return [(f"k{item * item % 8}", 10 ** 29 + item * item) for item in range(200)]
+
+
+def wrong_mirror_logs():
+    """Values that are not lists of at least one counted log."""
+    right = [("a", 1)]
+    values = plain_values() + [0, 1, "", "a", "ab", (), [], (right,), (right, right), {0: right}, iter([right])]
+    values += [right, ("a", 1), "a#1", [right, None], [None, right], [tuple(right)], [right, ()], [right, ["a"]]]
+    for part in wrong_counted():
+        values += [[part], [part, right], [right, part], [[], right, part]]
+    return values
+
+
+def wrong_cuts():
+    """Values that are not cuts of logs that show a up to 2 and b up to 1."""
+    values = plain_values() + [0, 1, "", "a", [], (), {}, {"a": 1}, {"b": 1}, {"a": 1, "c": 1}, nested_in_itself()]
+    values += [[("a", 1), ("b", 1)], (("a", 1), ("b", 1)), {"a", "b"}, ["a", "b"], [1, 1], [{"a": 1, "b": 1}]]
+    values += [{"a": 1, "b": 1, "c": 0}, {"a": 1, "b": 1, "c": 1}, {"a": 1, "b": 1, None: 0}, {"a": 1, 1: 1}]
+    values += [{"a": 1, ("b",): 1}, {("a", 1): 1, ("b", 1): 1}, {"A": 1, "b": 1}, {"": 1, "b": 1}, {0: 1, 1: 1}]
+    for count in wrong_counts():
+        if not isinstance(count, int) or isinstance(count, bool) or count < 0:
+            values += [{"a": count, "b": 1}, {"a": 1, "b": count}, {"b": count, "a": 1}]
+    values += [{"a": 3, "b": 1}, {"a": 1, "b": 2}, {"a": 10 ** 30, "b": 0}, {"a": -1, "b": 0}, {"a": 0, "b": -1}]
+    return values
+
+
+def wrong_numbers(least, most):
+    """Values that are not integers from the least to the most."""
+    values = plain_values() + ["0", "1", "", "a", [], [0], (), (0,), {0: 0}, {0}, nested_in_itself()]
+    return values + [least - 1, least - 2, most + 1, most + 2, -10 ** 30, 10 ** 30 + most]
