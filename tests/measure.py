@@ -5,7 +5,7 @@ No test: times depend on the machine. The best of many calls is shown, in millis
 
 import time
 
-from conflate import chains, given, keys, mirrors, orders, pairs, queues, relations
+from conflate import chains, cuts, given, hub, keys, mirrors, orders, pairs, queues, relations, texts
 from tests import sources, test_long
 from tests.test_long import KEYS, counted_of
 
@@ -63,6 +63,15 @@ def main():
     for function in (mirrors.is_direct, relations.is_before, relations.path_between, relations.history_with):
         show(function, logs, first, last)
     show(relations.unordered_with, logs, first)
+    show(cuts.standing_of, logs, cuts.least_cut(logs, last))
+    show(cuts.why_impossible, logs, cuts.least_cut(logs, last))
+    show(cuts.least_cut, logs, last)
+    show(cuts.greatest_cut, logs, first)
+    show(cuts.sure_moments, logs, 0)
+    print("a hub and the texts of a run of 1,000 events")
+    show(hub.Hub.from_run, run)
+    show(texts.format_run, run)
+    show(texts.parse_run, texts.format_run(run))
 
 
 if __name__ == "__main__":

@@ -4,12 +4,17 @@ import copy
 import inspect
 import unittest
 
-from conflate import chains, given, keys, mirrors, orders, pairs, queues, relations
+from conflate import chains, cuts, given, keys, mirrors, orders, pairs, queues, relations, texts
 from conflate.chains import (
     is_chain, is_reversed, is_sure_through, reversed_chain, sure_depth, sure_from, traced,
 )
+from conflate.console import Console
+from conflate.cuts import (
+    contents_after, greatest_cut, least_cut, standing_of, sure_moments, why_impossible,
+)
 from conflate.errors import ConflateError
 from conflate.given import count_logs, first_wrong, is_log_of, log_number, next_items, nth_log, run_of
+from conflate.hub import Hub
 from conflate.keys import entries_of, is_counted, is_log, is_run, keys_of, last_counts, previous_items
 from conflate.mirrors import (
     history_of, is_consistent, is_direct, is_history, is_ring, marked_writes, ring_in,
@@ -22,6 +27,7 @@ from conflate.queues import (
     earliest_run, first_fault, hidden_in, shown_by, waiting_after, writes_of,
 )
 from conflate.relations import history_with, is_before, path_between, unordered_with
+from conflate.texts import format_counted, format_log, format_run, parse_counted, parse_log, parse_run
 from tests import values
 from tests.values import SEND, events, w
 
@@ -64,6 +70,15 @@ INTERFACE = {
         ("is_before", ["logs", "write", "other"]), ("path_between", ["logs", "write", "other"]),
         ("history_with", ["logs", "first", "second"]), ("unordered_with", ["logs", "write"]),
     ],
+    cuts: [
+        ("standing_of", ["logs", "cut"]), ("why_impossible", ["logs", "cut"]), ("least_cut", ["logs", "write"]),
+        ("greatest_cut", ["logs", "write"]), ("contents_after", ["counted", "items"]),
+        ("sure_moments", ["logs", "mirror"]),
+    ],
+    texts: [
+        ("format_log", ["log"]), ("format_counted", ["counted"]), ("format_run", ["run"]), ("parse_log", ["text"]),
+        ("parse_counted", ["text"]), ("parse_run", ["text"]),
+    ],
 }
 COUNTED = [("b", 2), ("a", 1), ("b", 5)]
 LOG = ["b", "a", "b", "b"]
@@ -98,6 +113,10 @@ def calls():
         (is_history, LOGS, [("a", 1), ("b", 1), ("a", 2)]), (is_before, LOGS, ("a", 1), ("b", 1)),
         (path_between, LOGS, ("a", 1), ("a", 2)), (history_with, LOGS[:1], ("b", 1), ("a", 2)),
         (history_with, LOGS[:1], ("a", 2), ("b", 1)), (unordered_with, LOGS[:1], ("a", 2)),
+        (standing_of, LOGS, {"b": 1, "a": 1}), (why_impossible, LOGS, {"b": 1, "a": 0}), (least_cut, LOGS, ("b", 1)),
+        (greatest_cut, LOGS, ("b", 1)), (contents_after, COUNTED, 2), (sure_moments, LOGS, 1),
+        (format_log, LOG), (format_counted, COUNTED), (format_run, RUN), (parse_log, "b a b"),
+        (parse_counted, "b#2 a#1 b#5"), (parse_run, "+a +b ! +a"),
     ]
 
 
@@ -106,7 +125,8 @@ def all_walked(log):
 
 
 KINDS = {
-    dict: [last_counts],
+    dict: [last_counts, least_cut, greatest_cut, contents_after],
+    str: [standing_of, format_log, format_counted, format_run],
     bool: [
         is_log, is_counted, is_run, is_sure, is_order, is_chain, is_sure_through, is_reversed, is_log_of, is_direct,
         is_consistent, is_ring, is_history, is_before,
@@ -114,7 +134,7 @@ KINDS = {
     int: [
         repeat_end, fewest_hidden, count_orders, order_number, sure_from, sure_depth, first_wrong, count_logs, log_number,
     ],
-    tuple: [why_sure, broken_pair],
+    tuple: [why_sure, broken_pair, why_impossible],
 }
 NONE_OR_A_NUMBER = [
     (first_fault, RUN), (first_fault, events("a!!")), (reversed_run, SURE, 0, 3),
@@ -181,6 +201,10 @@ class Arguments(unittest.TestCase):
             (history_of, WRONG_WAY), (is_direct, LOGS, ("a", 1), ("a", 3)), (is_before, WRONG_WAY, ("a", 1), ("b", 1)),
             (is_ring, [], []), (is_history, [None], []), (path_between, LOGS, ("a", 0), ("b", 1)),
             (history_with, WRONG_WAY, ("a", 1), ("b", 1)), (unordered_with, WRONG_WAY, ("a", 1)),
+            (standing_of, LOGS, {"b": 2, "a": 1}), (why_impossible, LOGS, {"b": 1}), (least_cut, WRONG_WAY, ("b", 1)),
+            (greatest_cut, LOGS, ("b", 2)), (contents_after, COUNTED, 4), (sure_moments, WRONG_WAY, 0),
+            (format_log, ["a", "A"]), (format_counted, [("a", 1), ("a", 1)]), (format_run, events("a!!")),
+            (parse_log, ["a"]), (parse_counted, "a#1 a#1"), (parse_run, ["+a"]),
         ]
         for function, *given in wrong:
             with self.subTest(function=function.__name__):
@@ -246,6 +270,17 @@ class Arguments(unittest.TestCase):
         with self.assertRaises(ConflateError):
             is_consistent(logs)
 
+    def test_a_cut_changed_in_place_is_read_anew(self):
+        logs, cut = copy.deepcopy(LOGS), {"b": 1, "a": 1}
+        self.assertEqual([standing_of(logs, cut), sure_moments(logs, 0)], ["sure", [0, 2]])
+        cut["a"] = 0
+        self.assertEqual([standing_of(logs, cut), why_impossible(logs, cut)], ["impossible", (("a", 1), ("b", 1))])
+        del logs[1]
+        cut["a"] = 1
+        self.assertEqual([standing_of(logs, cut), least_cut(logs, ("a", 2))], ["possible", {"a": 2, "b": 0}])
+        logs[0][0] = ("a", 3)
+        self.assertEqual([standing_of(logs, cut), greatest_cut(logs, ("a", 3))], ["possible", {"a": 2, "b": 1}])
+
     def test_a_chain_changed_in_place_is_read_anew(self):
         chain = copy.deepcopy(CHAIN)
         self.assertEqual(traced(chain), [2, 3])
@@ -306,8 +341,14 @@ class Results(unittest.TestCase):
                 function(given).append("zz")
                 self.assertEqual(given, [])
                 self.assertEqual(function([]), [])
-        last_counts([])["zz"] = 1
-        self.assertEqual(last_counts([]), {})
+        for function, *given in [
+            (last_counts, []), (contents_after, [], 0), (contents_after, [("a", 1)], 0),
+        ]:
+            function(*given)["zz"] = 1
+            self.assertEqual(function(*given), {})
+        for function in (parse_log, parse_counted, parse_run):
+            function("").append("zz")
+            self.assertEqual(function(""), [])
         for function, *given in [
             (run_for, [], []), (nth_order, [], 0), (traced, [[]]), (next_items, [], []), (nth_log, [], 0),
             (run_of, [], []), (marked_writes, [[]]), (history_of, [[]]), (unordered_with, [[("a", 1)]], ("a", 1)),
@@ -345,6 +386,20 @@ class Results(unittest.TestCase):
             for other in unordered_with(logs, write):
                 self.assertIsNone(path_between(logs, write, other))
 
+    def test_results_of_a_hub_are_accepted_as_arguments(self):
+        hub = Hub.from_run(events("abab!c!aba!!"))
+        hub.attach()
+        hub.send_all(1, most=2)
+        logs = [hub.log_of(mirror) for mirror in range(hub.mirror_count)]
+        for log in logs + [hub.waiting_in(1), list(hub.contents.items())]:
+            self.assertEqual(parse_counted(format_counted(log)), log)
+        cut = least_cut(logs, logs[0][-1])
+        self.assertNotEqual(standing_of(logs, cut), "impossible")
+        self.assertEqual(parse_run(format_run(earliest_run(events("ab!a!")))), earliest_run(events("ab!a!")))
+        self.assertEqual(parse_log(format_log(keys_of(logs[0]))), keys_of(logs[0]))
+        for moment in sure_moments(logs, 1):
+            self.assertEqual(standing_of(logs, {"a": 0, "b": 0, "c": 0, **contents_after(logs[1], moment)}), "sure")
+
     def test_runs_and_chains_are_accepted_as_arguments(self):
         for run in (reversed_run(SURE, 2, 3), run_for(SURE, nth_order(SURE, 3))):
             self.assertEqual(keys_of(shown_by(run)), SURE)
@@ -353,6 +408,38 @@ class Results(unittest.TestCase):
         self.assertIs(is_chain(chain), True)
         self.assertIs(is_chain(chain[:1]), True)
         self.assertEqual(keys_of(shown_by(chain[-1])), SURE)
+
+
+class Objects(unittest.TestCase):
+    def test_equal_calls_give_equal_objects(self):
+        hubs = [Hub.from_run(RUN), Hub.from_run(RUN)]
+        for hub in hubs:
+            hub.attach()
+            hub.write_key("c")
+            hub.send_all(1, most=2)
+        self.assertIs(hubs[0] == hubs[1], True)
+        self.assertEqual(*[[hub.log_of(1), hub.waiting_in(0), hub.contents, len(hub)] for hub in hubs])
+
+    def test_results_of_a_hub_are_new_objects(self):
+        hub = Hub.from_run(RUN)
+        hub.attach()
+        calls = [(hub.log_of, 0), (hub.waiting_in, 0), (hub.waiting_in, 1), (hub.send_all, 1), (hub.log_of, 1)]
+        for call, mirror in calls:
+            before = [hub.log_of(0), hub.waiting_in(0), hub.contents]
+            found = call(mirror)
+            kept = [hub.log_of(1), hub.waiting_in(1)]
+            change(found)
+            self.assertEqual([hub.log_of(0), hub.waiting_in(0), hub.contents], before)
+            self.assertEqual([hub.log_of(1), hub.waiting_in(1)], kept)
+        change(hub.contents)
+        self.assertEqual(hub.contents, {"a": 3, "b": 4})
+        self.assertIsNot(hub.contents, hub.contents)
+
+    def test_a_console_answers_the_same_each_time(self):
+        rows = ["attach", "write a b a", "send 0", "contents", "log 0", "waiting 0", "moments 0", "undo"]
+        consoles = [Console(), Console()]
+        self.assertEqual(*[[console.execute(row) for row in rows] for console in consoles])
+        self.assertEqual(consoles[0].execute("waiting 0"), consoles[0].execute("waiting 0"))
 
 
 def change(result):

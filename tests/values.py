@@ -41,6 +41,16 @@ class EqualToAll:
         return False
 
 
+class EqualToKeyA:
+    """An object that is no string but is found where the key a is looked for."""
+
+    def __hash__(self):
+        return hash("a")
+
+    def __eq__(self, other):
+        return other == "a"
+
+
 def plain_values():
     """Values that are no string, list or tuple, hashable or not, and no integer either."""
     return [
@@ -48,7 +58,7 @@ def plain_values():
         {}, {"a": 1}, set(), {"a"}, frozenset(), frozenset(["a"]), range(0), range(3), ...,
         NotImplemented, object(), object, str, list, len, lambda: "a", iter("a"), iter([]),
         (key for key in ["a"]), {"a": 1}.keys(), {"a": 1}.items(), ValueError("a"), memoryview(b"a"),
-        Hostile(), EqualToAll(), zip("a", [1]),
+        Hostile(), EqualToAll(), EqualToKeyA(), zip("a", [1]),
     ]
 
 
@@ -221,6 +231,7 @@ def wrong_cuts():
     for count in wrong_counts():
         if not isinstance(count, int) or isinstance(count, bool) or count < 0:
             values += [{"a": count, "b": 1}, {"a": 1, "b": count}, {"b": count, "a": 1}]
+    values += [{EqualToKeyA(): 1, "b": 1}, {"b": 1, EqualToKeyA(): 1}]
     values += [{"a": 3, "b": 1}, {"a": 1, "b": 2}, {"a": 10 ** 30, "b": 0}, {"a": -1, "b": 0}, {"a": 0, "b": -1}]
     return values
 
